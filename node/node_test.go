@@ -853,7 +853,7 @@ func TestP63NoGeneration(t *testing.T) {
 func TestP6AnyNode(t *testing.T) {
 	c := chance(11)
 	keyOf := func() []byte { return key(c.below(9), c.below(5)) }
-	any := func() node.Node {
+	anyNode := func() node.Node {
 		n := node.Node{Leaf: c.below(2) == 0}
 		for range c.below(90) * c.below(2) {
 			n.Items = append(n.Items, item.Item{Key: keyOf(), Value: make([]byte, c.below(50)), Size: c.below(99) - 40, Ref: c.below(5) - 2})
@@ -865,7 +865,7 @@ func TestP6AnyNode(t *testing.T) {
 	}
 	for range 3000 {
 		g := c.below(6) - 1
-		n, m := any(), any()
+		n, m := anyNode(), anyNode()
 		a, b := copyOf(n), copyOf(m)
 		node.Right(g, n)
 		node.Room(g, n)
